@@ -1,0 +1,1 @@
+"""Inorderonce: a message queue over several brokers that keeps order and counts once."""
