@@ -1,7 +1,7 @@
 """Items, tokens, commands, and the letters between brokers and clients."""
 
 from inorderonce.errors import InvalidLetter, InvalidLine
-from inorderonce.integers import is_between
+from inorderonce.kinds import fits, has_word, is_between
 from inorderonce.lines import is_name, is_nested, is_text, read_line
 
 # Sums of such integers have at most 15 figures, so that they are values, too.
@@ -19,19 +19,19 @@ DEEPEST_PICTURE = 5
 
 def is_item(value):
     """Judge whether this is an item."""
-    return _fits(value, ITEM)
+    return fits(value, ITEM)
 
 
 def is_token(value):
     """Judge whether this is a token."""
-    return _fits(value, TOKEN)
+    return fits(value, TOKEN)
 
 
 def is_command(value):
     """Judge whether this is a command."""
-    if not _has_word(value) or value[0] not in COMMANDS:
+    if not has_word(value) or value[0] not in COMMANDS:
         return False
-    if not _fits(value[1:], COMMANDS[value[0]]):
+    if not fits(value[1:], COMMANDS[value[0]]):
         return False
     # The topic for the dead of a group is another one than that which it reads.
     return value[0] != "group" or value[2] != value[3]
@@ -39,10 +39,10 @@ def is_command(value):
 
 def is_letter(value):
     """Judge whether this is a letter between brokers, or between a client and a broker."""
-    if not _has_word(value) or value[0] not in LETTERS:
+    if not has_word(value) or value[0] not in LETTERS:
         return False
     _, form = LETTERS[value[0]]
-    return _fits(value[1:], form)
+    return fits(value[1:], form)
 
 
 def side(letter):
@@ -58,21 +58,6 @@ def client_of(letter):
     if side(letter) == "brokers":
         raise InvalidLetter(letter)
     return letter[1]
-
-
-def _has_word(value):
-    """Judge whether this is a tuple that begins with a text."""
-    return isinstance(value, tuple) and len(value) > 0 and isinstance(value[0], str)
-
-
-def _fits(value, form):
-    """Judge whether this is a tuple of just such parts as a form, a tuple of functions, tells."""
-    if not isinstance(value, tuple) or len(value) != len(form):
-        return False
-    for judge, part in zip(form, value):
-        if not judge(part):
-            return False
-    return True
 
 
 # The tables below may hold only functions of this file, so is_name needs a name of this file.
@@ -138,7 +123,7 @@ def _is_making(value):
 
 
 def _is_row(value):
-    return _fits(value, ROW)
+    return fits(value, ROW)
 
 
 def _is_rows(value):

@@ -1,7 +1,7 @@
 """Names, plain texts, and values with their lines."""
 
 from inorderonce.errors import InvalidLine, InvalidValue, TooLong
-from inorderonce.integers import is_between
+from inorderonce.kinds import is_between
 
 GREATEST_INTEGER = 999999999999999
 MOST_OF_NAME = 8
@@ -14,10 +14,15 @@ DEEPEST = 6
 MARKS = {"~": None, "+": True, "!": False}
 
 
+def is_signs(value):
+    """Judge whether this is a text, of whatever length, with codes from 32 to 126."""
+    # Of the codes below 128 those from 32 to 126, and no others, are printable.
+    return isinstance(value, str) and value.isascii() and value.isprintable()
+
+
 def is_text(value, most):
     """Judge whether this is a text of at most so many signs, with codes from 32 to 126."""
-    # Of the codes below 128 those from 32 to 126, and no others, are printable.
-    return isinstance(value, str) and len(value) <= most and value.isascii() and value.isprintable()
+    return isinstance(value, str) and len(value) <= most and is_signs(value)
 
 
 def is_name(value):
@@ -38,6 +43,11 @@ def is_value(value):
 def is_nested(value, deep):
     """Judge whether this is a value that is nested at most so deep."""
     return _count_within(value, deep) <= MOST_IN_VALUE
+
+
+def has_line(value, deep, most):
+    """Judge whether this is a value that is nested at most so deep, and whose line has at most so many signs."""
+    return is_nested(value, deep) and _count_signs(value) <= most
 
 
 def _count_within(value, deep):

@@ -8,6 +8,8 @@ import pathlib
 import re
 import unittest
 
+from inorderonce.disks import Disk
+
 FOLDER = pathlib.Path(__file__).parent.parent / "inorderonce"
 # For each module the functions that the interface lists, with the names of their arguments.
 INTERFACE = {
@@ -15,7 +17,44 @@ INTERFACE = {
               "read_line": ["text"]},
     "letters": {"is_item": ["value"], "is_token": ["value"], "is_command": ["value"], "is_letter": ["value"],
                 "side": ["letter"], "client_of": ["letter"]},
+    "frames": {"framed": ["text"], "all_framed": ["texts"], "frames_in": ["text"], "is_whole": ["value"],
+               "cut_at": ["texts", "signs"]},
+    "meaning": {"fold": ["commands"]},
+    "turns": {"eligible": ["state", "group"]},
+    "logs": {"log_meaning": ["disk"]},
+    "pictures": {"picture": ["state"], "state_of": ["value"], "text_of": ["state"], "read_state": ["text"],
+                 "room": ["topics", "groups", "messages", "producers"]},
+    "nodes": {"most_reach": ["counts"]},
 }
+# For each module and class the methods that the interface lists, with the names of their arguments.
+CLASSES = {
+    "disks": {"Disk": {"__init__": [], "write": ["name", "text"], "sync": ["name"], "drop": ["name"], "fall": ["keeps"],
+                       "arm": ["ops"], "read": ["name"], "names": [], "synced": ["name"], "ops": [], "copy": []}},
+    "meaning": {"State": {"__init__": [], "apply": ["command"], "topics": [], "groups": [], "producers": [],
+                          "kept": ["topic"],
+                          "message": ["number"], "waiting": ["group"], "tries": ["group", "number"],
+                          "first": ["group", "key"], "counts": ["group"], "copy": []}},
+    "turns": {"Turns": {"__init__": ["state"], "apply": ["command"], "state": [], "eligible": ["group"],
+                        "first": ["group", "passed"], "rank": ["group", "number"], "by_key": ["group"]}},
+    "logs": {"Log": {"__init__": ["disk"], "rows": [], "last": [], "term_at": ["index"], "row": ["index"],
+                     "rows_from": ["index", "most"], "vote": ["term", "who"], "put": ["term", "command"],
+                     "cut": ["index"],
+                     "keep": ["index", "picture"], "swap": ["index", "term", "picture"]}},
+    "nodes": {"Node": {"__init__": ["number", "brokers", "disk"], "last": [], "row": ["index"], "term_at": ["index"],
+                       "picture": [], "tick": [], "take": ["letter"], "put": ["command"],
+                       "keep": ["index", "picture"]}},
+    "leases": {"Leases": {"__init__": [], "give": ["member", "group", "number", "token", "end"],
+                          "of": ["member", "group"],
+                          "holder": ["group", "number"], "held": ["group"], "drop": ["group", "number"],
+                          "ended": ["time"],
+                          "listed": []}},
+}
+# For each class the attributes that the interface lists, and what it is made of here.
+ATTRIBUTES = [
+    ("meaning", "State", ["now", "next"], []), ("logs", "Log", ["term", "base", "base_term", "voted", "picture"],
+                                                [Disk()]),
+    ("nodes", "Node", ["number", "patience", "taken", "term", "base", "role", "leader"], [0, 1, Disk()]),
+]
 ALLOWED = set("""len range enumerate zip min max sum abs sorted reversed int str bool bytes list tuple dict set
     frozenset isinstance ord repr any all divmod getattr hasattr setattr iter next Exception ValueError TypeError
     KeyError IndexError LookupError ZeroDivisionError ArithmeticError OverflowError RuntimeError NotImplementedError
@@ -84,6 +123,22 @@ class Interface(unittest.TestCase):
                     function = getattr(held, name)
                     self.assertEqual(function.__module__, f"inorderonce.{module}")
                     self.assertEqual(list(inspect.signature(function).parameters), arguments)
+
+    def test_classes(self):
+        for module, classes in CLASSES.items():
+            for kind, methods in classes.items():
+                held = getattr(importlib.import_module(f"inorderonce.{module}"), kind)
+                self.assertEqual([held.__module__, held.__bases__], [f"inorderonce.{module}", (object,)])
+                for name, arguments in methods.items():
+                    with self.subTest(module=module, kind=kind, name=name):
+                        self.assertIn(name, vars(held))
+                        self.assertEqual(list(inspect.signature(vars(held)[name]).parameters)[1:], arguments)
+
+    def test_attributes(self):
+        for module, kind, attributes, places in ATTRIBUTES:
+            with self.subTest(module=module, kind=kind):
+                made = getattr(importlib.import_module(f"inorderonce.{module}"), kind)(*places)
+                self.assertEqual([name for name in attributes if name not in vars(made)], [])
 
 
 def over_files(check):
@@ -205,6 +260,26 @@ class Form(unittest.TestCase):
                     self.assertNotRegex(node.value, r"\._+$|^__.*__$")
             if isinstance(node, ast.Name):
                 self.assertNotRegex(node.id, NO_WORDS)
+
+    @over_files
+    def test_beside_equality(self, text, tree):
+        """L7, L24, L25: with an __eq__ no generator expression and no .sort(); sets and generators are not used."""
+        for node in ast.walk(tree):
+            self.assertNotIsInstance(node, (ast.GeneratorExp, ast.Yield, ast.YieldFrom, ast.Set, ast.SetComp,
+                                            ast.Match, ast.Lambda))
+            if isinstance(node, ast.Call) and isinstance(node.func, ast.Attribute):
+                self.assertNotEqual(node.func.attr, "sort")
+
+    @over_files
+    def test_private_names_of_others(self, text, tree):
+        """What begins with an underscore is used in the file of its class alone."""
+        own = {node.name for held in tree.body if isinstance(held, ast.ClassDef) for node in held.body
+               if isinstance(node, ast.FunctionDef)}
+        own.update([node.attr for node in ast.walk(tree) if isinstance(node, ast.Attribute)
+                    and isinstance(node.ctx, ast.Store)])
+        for node in ast.walk(tree):
+            if isinstance(node, ast.Attribute) and node.attr.startswith("_"):
+                self.assertIn(node.attr, own)
 
     @over_files
     def test_comparisons_and_handlers(self, text, tree):
