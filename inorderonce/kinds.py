@@ -21,6 +21,11 @@ def is_number(value):
     return is_integer(value) and value >= 1
 
 
+def is_brokers(value):
+    """Judge whether so many brokers may be together."""
+    return is_integer(value) and value in (1, 3, 5)
+
+
 def is_list_of(value, judge):
     """Judge whether this is a list or a tuple in which each item is as judge, a function, asks."""
     return isinstance(value, (list, tuple)) and all([judge(part) for part in value])

@@ -37,6 +37,11 @@ def is_command(value):
     return value[0] != "group" or value[2] != value[3]
 
 
+def is_sending(value):
+    """Judge whether this is what a producer sends at once: a tuple of items, at least one."""
+    return _is_made(value) and len(value) > 0
+
+
 def is_letter(value):
     """Judge whether this is a letter between brokers, or between a client and a broker."""
     if not has_word(value) or value[0] not in LETTERS:
@@ -112,11 +117,6 @@ def _is_made(value):
     return all([is_item(part) for part in value])
 
 
-def _is_sending(value):
-    """Judge whether this is what a producer sends at once: a tuple of items, at least one."""
-    return _is_made(value) and len(value) > 0
-
-
 def _is_making(value):
     """Judge whether this is a command that a client may ask for by itself."""
     return is_command(value) and value[0] in ("topic", "group")
@@ -149,7 +149,7 @@ ROW = (_is_number, is_command)
 COMMANDS = {
     "topic": (_is_name, _is_bool),
     "group": (_is_name, _is_name, _is_name_or_none),
-    "send": (_is_name, _is_number, _is_sending),
+    "send": (_is_name, _is_number, is_sending),
     "done": (_is_name, _is_number, is_token, _is_made),
     "failed": (_is_name, _is_number, _is_tries),
     "now": (_is_count,),
@@ -161,7 +161,7 @@ LETTERS = {
     "rows": ("brokers", (_is_number, _is_broker, _is_count, _is_count, _is_rows, _is_count)),
     "got": ("brokers", (_is_number, _is_broker, _is_bool, _is_count)),
     "whole": ("brokers", (_is_number, _is_broker, _is_count, _is_count, _is_picture)),
-    "send": ("asks", (_is_name, _is_number, _is_sending)),
+    "send": ("asks", (_is_name, _is_number, is_sending)),
     "want": ("asks", (_is_name, _is_number, _is_name)),
     "done": ("asks", (_is_name, _is_number, _is_name, _is_number, is_token, _is_made)),
     "nay": ("asks", (_is_name, _is_number, _is_name, _is_number, is_token)),

@@ -13,6 +13,37 @@ BEGIN_OF_NAME = "log-"
 FIGURES_OF_NAME = 4
 
 
+def files_on(disk, begin):
+    """List the names of the files on a disk that begin so, with four figures behind it, ascending."""
+    return [name for name in disk.names() if _is_numbered(name, begin)]
+
+
+def new_file(disk, begin):
+    """Give the name of the file behind all those that begin so."""
+    names = files_on(disk, begin)
+    number = int(names[-1].removeprefix(begin)) + 1 if names else 1
+    return begin + str(number).zfill(FIGURES_OF_NAME)
+
+
+def values_on(disk, begin):
+    """List the values whose lines stand in the files that begin so, in order; what is no such line is passed over."""
+    values = []
+    for name in files_on(disk, begin):
+        texts, _ = frames_in(disk.read(name))
+        for text in texts:
+            try:
+                values.append(read_line(text))
+            except InvalidLine:
+                continue
+    return values
+
+
+def _is_numbered(name, begin):
+    """Judge whether a name begins so, and has just four figures behind it."""
+    figures = name.removeprefix(begin)
+    return name == begin + figures and len(figures) == FIGURES_OF_NAME and figures.isdigit()
+
+
 def log_meaning(disk):
     """Give the log that lies on a disk: (term, vote, base index, base term, picture, rows)."""
     log = Log(disk)
@@ -34,9 +65,8 @@ class Log:
         self._disk = disk
         # The file that is written to; None until something is written.
         self._file = None
-        for name in _log_files(disk):
-            texts, _ = frames_in(disk.read(name))
-            for entry in _entries_of(texts):
+        for entry in values_on(disk, BEGIN_OF_NAME):
+            if _is_entry(entry):
                 self._follow(entry)
 
     def rows(self):
@@ -137,14 +167,14 @@ class Log:
             entries.append(("row", place, elder, command))
         self._file = None
         self._write(entries)
-        for name in _log_files(self._disk):
+        for name in files_on(self._disk, BEGIN_OF_NAME):
             if name != self._file:
                 self._disk.drop(name)
 
     def _write(self, entries):
         """Write entries and sync them, then do what they tell."""
         if self._file is None:
-            self._file = _new_file(self._disk)
+            self._file = new_file(self._disk, BEGIN_OF_NAME)
         self._disk.write(self._file, all_framed([line(entry) for entry in entries]))
         self._disk.sync(self._file)
         for entry in entries:
@@ -185,37 +215,6 @@ class Log:
             self.base = index
             self.base_term = term
             self.picture = picture
-
-
-def _log_files(disk):
-    """List the names of the files of a log, ascending."""
-    return [name for name in disk.names() if _is_log_file(name)]
-
-
-def _is_log_file(name):
-    """Judge whether a file of this name is one of a log."""
-    figures = name.removeprefix(BEGIN_OF_NAME)
-    return name == BEGIN_OF_NAME + figures and len(figures) == FIGURES_OF_NAME and figures.isdigit()
-
-
-def _new_file(disk):
-    """Give the name of the file behind all that the log has on the disk."""
-    names = _log_files(disk)
-    number = int(names[-1].removeprefix(BEGIN_OF_NAME)) + 1 if names else 1
-    return BEGIN_OF_NAME + str(number).zfill(FIGURES_OF_NAME)
-
-
-def _entries_of(texts):
-    """List the entries of which some of these texts are the lines."""
-    entries = []
-    for text in texts:
-        try:
-            entry = read_line(text)
-        except InvalidLine:
-            continue
-        if _is_entry(entry):
-            entries.append(entry)
-    return entries
 
 
 def _is_entry(value):

@@ -3,7 +3,7 @@
 from inorderonce.errors import (
     InvalidBrokers, InvalidCommand, InvalidCount, InvalidLetter, InvalidNumber, NoRow, NotLeading,
 )
-from inorderonce.kinds import is_between, is_count, is_integer, is_list_of
+from inorderonce.kinds import is_between, is_brokers, is_count, is_list_of
 from inorderonce.letters import MOST_OF_ROWS, is_command, side
 from inorderonce.lines import line, read_line
 from inorderonce.logs import Log
@@ -23,7 +23,7 @@ class Node:
     """One of several brokers' nodes, with the log that lies on its disk."""
 
     def __init__(self, number, brokers, disk):
-        if not is_integer(brokers) or brokers not in (1, 3, 5):
+        if not is_brokers(brokers):
             raise InvalidBrokers(brokers)
         if not is_between(number, 0, brokers - 1):
             raise InvalidNumber(number)

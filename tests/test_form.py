@@ -25,6 +25,8 @@ INTERFACE = {
     "pictures": {"picture": ["state"], "state_of": ["value"], "text_of": ["state"], "read_state": ["text"],
                  "room": ["topics", "groups", "messages", "producers"]},
     "nodes": {"most_reach": ["counts"]},
+    "histories": {"messages": ["commands"], "sendings": ["commands", "producer"], "fates": ["commands", "group"],
+                  "settled": ["commands", "group", "key"], "gone": ["commands"], "made_by": ["commands", "maker"]},
 }
 # For each module and class the methods that the interface lists, with the names of their arguments.
 CLASSES = {
@@ -48,12 +50,25 @@ CLASSES = {
                           "holder": ["group", "number"], "held": ["group"], "drop": ["group", "number"],
                           "ended": ["time"],
                           "listed": []}},
+    "brokers": {"Broker": {"__init__": ["number", "brokers", "disk"], "last": [], "row": ["index"], "state": [],
+                           "leases": [], "fresh": [], "tick": [], "take": ["letter"]}},
+    "clients": {"Producer": {"__init__": ["name", "disk", "brokers"], "put": ["items"], "last": [], "unacked": [],
+                             "tick": [], "take": ["letter"]},
+                "Member": {"__init__": ["name", "group", "made", "brokers"], "work": ["key", "body"], "tick": [],
+                           "take": ["letter"], "holds": [], "told": []}},
+    "worlds": {"World": {"__init__": ["brokers", "producers", "members"], "act": ["act"], "run": ["acts"],
+                         "brokers": [], "producers": [], "members": [], "letters": [], "answers": [], "reached": [],
+                         "log": [], "stands": ["who"], "broker": ["number"], "producer": ["name"],
+                         "member": ["name"], "disk": ["who"]}},
 }
 # For each class the attributes that the interface lists, and what it is made of here.
 ATTRIBUTES = [
     ("meaning", "State", ["now", "next"], []), ("logs", "Log", ["term", "base", "base_term", "voted", "picture"],
                                                 [Disk()]),
     ("nodes", "Node", ["number", "patience", "taken", "term", "base", "role", "leader"], [0, 1, Disk()]),
+    ("brokers", "Broker", ["role", "leader", "term", "taken", "base", "applied"], [0, 1, Disk()]),
+    ("clients", "Producer", ["name"], ["ann", Disk(), 1]),
+    ("clients", "Member", ["name", "group", "made"], ["bob", "crew", None, 1]),
 ]
 ALLOWED = set("""len range enumerate zip min max sum abs sorted reversed int str bool bytes list tuple dict set
     frozenset isinstance ord repr any all divmod getattr hasattr setattr iter next Exception ValueError TypeError
@@ -260,6 +275,15 @@ class Form(unittest.TestCase):
                     self.assertNotRegex(node.value, r"\._+$|^__.*__$")
             if isinstance(node, ast.Name):
                 self.assertNotRegex(node.id, NO_WORDS)
+
+    @over_files
+    def test_texts_with_braces(self, text, tree):
+        """L27: an f-string stands on one line, and none within another one."""
+        for node in ast.walk(tree):
+            if isinstance(node, ast.JoinedStr):
+                self.assertEqual(node.lineno, node.end_lineno)
+                inner = [part for part in ast.walk(node) if isinstance(part, ast.JoinedStr) and part is not node]
+                self.assertEqual([part for part in inner if part.values], [])
 
     @over_files
     def test_beside_equality(self, text, tree):

@@ -12,39 +12,20 @@ from inorderonce.errors import (
 from inorderonce.lines import line
 from inorderonce.logs import Log, log_meaning
 from inorderonce.nodes import Node, most_reach
-from tests.support import NO_COUNTS, NO_INTEGERS, NO_LISTS, STRANGE, Case, nest
+from tests.support import FALSE_LETTERS, NO_COUNTS, NO_INTEGERS, NO_LISTS, STRANGE, Case, lay, nest
 
 ITEM = ("jobs", "k", "paint", 0, 0, 0)
 NOW = ("now", 0)
 LONGEST = '"' * 19999
 NO_LETTERS = [
-    *STRANGE, 0, 1, "", "ask", (), ("ask",), ("ask", 2, 1, 0), ["ask", 2, 1, 0, 0], ("ask", 0, 1, 0, 0),
-    ("ask", 2, 5, 0, 0), ("ask", 2, -1, 0, 0),
-    ("ask", 2, True, 0, 0), ("ask", 2, 1, -1, 0), ("ask", 2, 1, 0, 0, 0), ("vote", 2, 1, 1), ("vote", 2, 1, None),
-    ("vote", 2, 1),
-    ("rows", 2, 1, 0, 0, [], 0), ("rows", 2, 1, 0, 0, ((1, ("now", -1)),), 0), ("rows", 2, 1, 0, 0, ((0, NOW),), 0),
-    ("rows", 2, 1, 0, 0, ((1, NOW),) * 6, 0),
-    ("rows", 2, 1, 0, 0, ()), ("got", 2, 1, 1, 0), ("got", 2, 1, True, -1), ("got", 2, 1, True, 0, 0),
-    ("whole", 2, 1, 1, 1, "(0  1)"),
-    ("whole", 2, 1, 1, 1, ("p",)), ("whole", 2, 1, 1, 1, line(nest(6))), ("whole", 2, 1, 1, 1), ("later", 2, 1),
-    ("send", "ann", 1, (ITEM,)),
-    ("want", "bob", 1, "crew"), ("make", "ops", 1, ("topic", "jobs", True)), ("ok", "ann", 1), ("none", "bob", 1),
-    ("elsewhere", "bob", 1, -1),
-    NOW, nest(100000), (10 ** 5000,),
+    *FALSE_LETTERS, ("send", "ann", 1, (ITEM,)), ("want", "bob", 1, "crew"), ("make", "ops", 1, ("topic", "jobs", True)),
+    ("ok", "ann", 1), ("none", "bob", 1), ("elsewhere", "bob", 1, -1), NOW,
 ]
 
 
 def laid(*rows, term=0, voted=None, base=None):
     """A disk with a log of rows of these terms, in this term, with this vote; base is (index, term, picture)."""
-    disk = Disk()
-    log = Log(disk)
-    if term:
-        log.vote(term, voted)
-    if base:
-        log.swap(*base)
-    for at, elder in enumerate(rows):
-        log.put(elder, ("now", 100 + at))
-    return disk
+    return lay([(elder, ("now", 100 + at)) for at, elder in enumerate(rows)], term, voted, base)
 
 
 def row(term, at):
