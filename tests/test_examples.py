@@ -48,7 +48,8 @@ class Examples(unittest.TestCase):
     def test_modules(self):
         """None of the files is empty, and there is one for each module that has examples."""
         for module in ("lines", "letters", "disks", "frames", "meaning", "turns", "logs", "pictures", "nodes",
-                       "leases", "brokers", "histories", "clients", "worlds"):
+                       "leases", "brokers", "histories", "clients", "worlds", "calm", "examiner", "actlines",
+                       "desk"):
             with self.subTest(module=module):
                 steps = [step for block in blocks_of((FOLDER / f"{module}.txt").read_text()) for step in block]
                 self.assertGreater(len([step for step in steps if step[1] is not None]), 2)

@@ -27,6 +27,11 @@ INTERFACE = {
     "nodes": {"most_reach": ["counts"]},
     "histories": {"messages": ["commands"], "sendings": ["commands", "producer"], "fates": ["commands", "group"],
                   "settled": ["commands", "group", "key"], "gone": ["commands"], "made_by": ["commands", "maker"]},
+    "calm": {"calm": ["world", "rounds"], "left": ["world"], "pairs": ["world", "topic", "signs", "dead"],
+             "enough": ["world"]},
+    "examiner": {"findings": ["disks"], "on_most": ["disks"], "shared": ["disks"], "last_term": ["disks"],
+                 "votes": ["disks", "term"], "able": ["disks"]},
+    "actlines": {"act_line": ["act"], "read_act": ["text"]},
 }
 # For each module and class the methods that the interface lists, with the names of their arguments.
 CLASSES = {
@@ -60,6 +65,7 @@ CLASSES = {
                          "brokers": [], "producers": [], "members": [], "letters": [], "answers": [], "reached": [],
                          "log": [], "stands": ["who"], "broker": ["number"], "producer": ["name"],
                          "member": ["name"], "disk": ["who"]}},
+    "desk": {"Desk": {"__init__": ["brokers", "producers", "members"], "do": ["text"], "show": [], "script": []}},
 }
 # For each class the attributes that the interface lists, and what it is made of here.
 ATTRIBUTES = [
