@@ -75,14 +75,11 @@ class Done(Case):
         desk = leading()
         before = (desk.show(), desk.script())
         for text in ["x", " ", "tick", "tick 1", "tick joe", "tick crew", "rise 2", "fall 4", "cut joe - 1", "carry",
-                     "carry 03", "carry -1",
-                     "tick 0 ", " tick 0", "send bob " + 'jobs k "" 0 0 0', 'send ann jobs k "" 0 0',
-                     "make ann 1 topic jobs",
-                     "make bob 1 topic jobs", "calm", "calm ", "calm -1", "calm 01", "calm 00", "calm x", "calm 1 1",
-                     "calm  1",
-                     "calm 1 ", " calm 1", "Calm 1", "calm +1", "calm 1000000000000000", "calm " + "1" * 16, "calm 1.0",
-                     "calm ~",
-                     "calm\t1", "tick 0\r", "tick 0;", "do", "show"]:
+                     "carry 03", "carry -1", "tick 0 ", " tick 0", "send bob " + 'jobs k "" 0 0 0',
+                     'send ann jobs k "" 0 0', "make ann 1 topic jobs", "make bob 1 topic jobs", "calm", "calm ",
+                     "calm -1", "calm 01", "calm 00", "calm x", "calm 1 1", "calm  1", "calm 1 ", " calm 1", "Calm 1",
+                     "calm +1", "calm 1000000000000000", "calm " + "1" * 16, "calm 1.0", "calm ~", "calm\t1",
+                     "tick 0\r", "tick 0;", "do", "show"]:
             for script in (text, f"{text}\ntick 1", f"tick 0\n{text}", f"tick 0\n{text}\n",
                            f"tick 0\ncalm 3\n{text}\ntick 0\nx y",
                            f"{text}\n\n"):
@@ -308,7 +305,8 @@ class Shown(Case):
         """By all rows that are told, whoever is fallen."""
         desk = Desk(1, ["ann"], [("bob", "crew", None)])
         desk.do(LEAD + "\nmake ops 1 topic jobs\ncarry 0\nmake ops 2 topic dead last\ncarry 1\n"
-                "make ops 3 group crew jobs dead\ncarry 2\nmake ops 4 group band jobs\ncarry 3\ncarry 0\ncarry 0\ncarry 0")
+                "make ops 3 group crew jobs dead\ncarry 2\nmake ops 4 group band jobs\ncarry 3\n"
+                "carry 0\ncarry 0\ncarry 0")
         desk.do('send ann jobs k "a" 0 0 0, jobs m "xb" 0 0 0, dead k "" 0 0 0\ntick ann\ncarry 1\ntick bob\ncarry 2\n'
                 "carry 2\ncarry 2\nmake ops 9 topic jobs\nfall 0")
         self.assertEqual(desk.show(), [

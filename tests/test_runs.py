@@ -252,9 +252,9 @@ class Runs(unittest.TestCase):
             for ops in range(total):
                 for keeps in ([], [10 ** 9 + 7], [30]):
                     with self.subTest(who=who, ops=ops, keeps=keeps):
-                        self.assertIs(self.run_with_cut(who, ops, keeps, rise=False).stands(who), False)
+                        self.assertIs(self.run_with_cut(who, ops, keeps).stands(who), False)
 
-    def run_with_cut(self, who, ops, keeps, rise=True):
+    def run_with_cut(self, who, ops, keeps):
         """A run in which all is used, each letter comes in turn, and this one is cut at this call."""
         watch = Watch(self, 3, ["ann"], [("bob", "g", "b")])
         watch.act(("cut", who, ops, keeps))

@@ -421,10 +421,10 @@ class Refused(Case):
     def wrong(self):
         """Acts that are none of a world with brokers 0 to 2, the producer ann and the member bob."""
         acts = [*any_values(), 0, 1, "tick", ("tick",), ["tick", 0], ("tick", 0, 0), ("Tick", 0), (0, "tick"),
-                (("tick",), 0), ("carry",), ("carry", 0, 0), ["carry", 0], ("fall", 0), ("fall", 0, [], []),
-                ["fall", 0, []], ("rise",), ("cut", 0, 1), ("cut", 0, []), ("cut", 0, 1, [], 0), ("send", "ann"),
-                ("send", "ann", (ITEM,), 1), ["send", "ann", (ITEM,)], ("make", "ops", 1), ("want", "ops", 1, "crew"),
-                ("calm", 3), ("ok", "ann", 1), ("topic", "jobs", False),
+                ([], 0), ({}, 0), (("tick",), 0), ("carry",), ("carry", 0, 0), ["carry", 0], ("fall", 0),
+                ("fall", 0, [], []), ["fall", 0, []], ("rise",), ("cut", 0, 1), ("cut", 0, []), ("cut", 0, 1, [], 0),
+                ("send", "ann"), ("send", "ann", (ITEM,), 1), ["send", "ann", (ITEM,)], ("make", "ops", 1),
+                ("want", "ops", 1, "crew"), ("calm", 3), ("ok", "ann", 1), ("topic", "jobs", False),
                 ("send", "ann", 1, (ITEM,)), ("make", "ops", 1, TOPIC, 0), ["make", "ops", 1, TOPIC]]
         for who in [*NO_NAMES[:-6], "joe", "ops", "crew", -1, 3, 4, 5, (0,), ("ann",)]:
             if type(who) is int and who in (0, 1, 2):
